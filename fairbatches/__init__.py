@@ -1,0 +1,1 @@
+"""Fairbatches: one fair order out of many rows."""

@@ -18,7 +18,7 @@ def is_weight(value):
 
 def is_share(value):
     """Tell whether a value is a number above 1/2 and at most 1."""
-    return is_number(value) and Ratio(1, 2) < value and as_ratio(value) <= 1
+    return is_number(value) and Ratio(1, 2) < value and value <= 1
 
 
 def is_row(value):

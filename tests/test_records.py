@@ -277,6 +277,8 @@ class ChangesTest(RecordsCase):
         self.assertEqual(other.things(), ["milk"])
         self.assert_ratio(other.whole(), "7/2")
         self.assertEqual(other.without(recorder="bob").text(), "share 2/3\ncy 3")
+        self.assertEqual(self.records.without("bob").text(), "share 2/3\nann 2 tea milk\ncy 3")
+        self.assertEqual(self.records.without("cy").text(), "share 2/3\nann 2 tea milk\nbob 1/2 milk")
         self.assert_given(NoRecorder, "ann", other.row, "ann")
 
     def test_without_raises_its_errors_in_their_order(self):

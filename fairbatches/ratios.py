@@ -1,6 +1,6 @@
 """Exact numbers: quotients of two integers."""
 
-from math import gcd
+from math import gcd, lcm
 
 from fairbatches.errors import BadNumber, BadText, ByZero
 
@@ -133,3 +133,12 @@ def raised(number, exponent):
         top = top * base.top
         bottom = bottom * base.bottom
     return Ratio(top, bottom)
+
+
+def proportional(numbers):
+    """Return integers that are to one another as the numbers of a list are."""
+    ratios = [as_ratio(number) for number in numbers]
+    common = 1
+    for ratio in ratios:
+        common = lcm(common, ratio.bottom)
+    return [ratio.top * (common // ratio.bottom) for ratio in ratios]

@@ -42,3 +42,12 @@ class ErrorCase(unittest.TestCase):
         """The value is the Ratio with a text."""
         self.assertIs(type(found), Ratio)
         self.assertEqual(found.text(), text)
+
+
+def odd_lists():
+    """Lists, and values that are none, that hold what may be neither a thing nor a list of things."""
+    return [
+        *odd_values(), "ab", {"a": 1, "b": 2}, {"a": ["b"]}, [None], [True, False], [1, 2], [Ratio(1, 2)], [{}, {}],
+        [[]], [[[]]], [["a"], "b"], ["a", ["b"]], ["a", None], [None, "a"], ["a", 1], ["a", {}], ["", ""], [["a", 1]],
+        ([None],), [["a", ["b"]]], [[["a"]], [["b"]]], [{"a": 1}, {"b": 1}],
+    ]

@@ -1,13 +1,13 @@
-"""Point 2: names, numbers, weights, shares and rows."""
+"""Points 2, 16, 19 and 21: names, numbers, weights, shares, rows, lists of lists, things and counts."""
 
-import unittest
-
-from fairbatches.checks import is_name, is_row, is_share, is_weight
+from fairbatches.checks import check_count, check_things, is_name, is_row, is_share, is_split, is_weight
+from fairbatches.errors import BadCount, NoThing
 from fairbatches.ratios import Ratio
-from tests.support import odd_values
+from fairbatches.records import Records
+from tests.support import ErrorCase, odd_lists, odd_values
 
 
-class ChecksTest(unittest.TestCase):
+class ChecksTest(ErrorCase):
     def test_names(self):
         for name in ("a", "z", "az", "abcdefgh", "zzzzzzzz", "share"):
             self.assertIs(is_name(name), True, name)
@@ -38,3 +38,27 @@ class ChecksTest(unittest.TestCase):
             [["a"]], [("a",)], ["a", {}], [["a"], ["a"]], [1], [Ratio(1, 2)], [True],
         ):
             self.assertIs(is_row(value), False, value)
+
+    def test_splits(self):
+        for value in ([["a"], ["b"]], [["b", "a"]], (("b",), ["a"]), [[], ["a"], [], ["b"]]):
+            self.assertIs(is_split(value, ["a", "b"]), True, value)
+        self.assertIs(is_split([], []), True)
+        self.assertIs(is_split([[], ()], []), True)
+
+    def test_no_splits(self):
+        for value in [*odd_lists(), [["a"]], [["a"], ["b"], ["a"]], [["a", "b", "c"]], [["ab"]], ["ab"], [["a"], "b"]]:
+            self.assertIs(is_split(value, ["a", "b"]), False, value)
+        self.assertIs(is_split([["a", "b", 10 ** 5000]], ["a", "b"]), False)
+
+    def test_check_things(self):
+        records = Records({"ann": 1, "bob": 1}, 1, {"ann": ["a", "b"], "bob": ["c"]})
+        check_things(records, ["c", "a", "b", "a"])
+        check_things(records, [])
+        for value in [*odd_values(), "d", ["a"]]:
+            self.assert_given(NoThing, value, check_things, records, ["a", value, "x"])
+
+    def test_check_count(self):
+        for count in (1, 2, 5):
+            check_count(count, 5)
+        for count in (0, 6, -1, True, False, None, Ratio(1), "1", [1], (1,), {1: 1}):
+            self.assert_given(BadCount, count, check_count, count, 5)

@@ -1,4 +1,7 @@
-"""Those rules of the language for the package that are easy to check: L1, L2, L4, L7, L8, L10, L14, L17 and L27."""
+"""Those rules of the language for the package that are easy to check.
+
+They are of L1, L2, L4, L5, L7, L8, L10, L14, L17, L25 and L27.
+"""
 
 import ast
 import builtins
@@ -21,6 +24,13 @@ BUILTINS = set(
 BARRED_WORDS = set(
     "typing typing_extensions enum Enum IntEnum StrEnum Flag IntFlag Generic Protocol ABC ABCMeta namedtuple "
     "NamedTuple TypedDict TYPE_CHECKING abstractmethod dataclass overload contextmanager".split()
+)
+METHODS = set(
+    "append clear copy count endswith extend find get index insert isalnum isalpha isdigit islower isspace isupper "
+    "items join keys ljust lower lstrip partition pop remove replace reverse rfind rjust rpartition rsplit rstrip "
+    "setdefault split splitlines startswith strip update upper values zfill bit_length add discard "
+    "title capitalize swapcase casefold center expandtabs removeprefix removesuffix rindex isascii isdecimal "
+    "isnumeric istitle isidentifier isprintable".split()
 )
 BARRED_NODES = (
     ast.Global, ast.AsyncFunctionDef, ast.AsyncFor, ast.AsyncWith, ast.Await, ast.Div, ast.MatMult, ast.GeneratorExp,
@@ -79,3 +89,18 @@ class LanguageTest(unittest.TestCase):
         for path in FILES:
             words = set(re.findall(r"\w+", path.read_text()))
             self.assertEqual(words & BARRED_WORDS, set(), path.name)
+
+    def test_methods(self):
+        own = {node.name for node in self.nodes() if isinstance(node, ast.FunctionDef)}
+        for node in self.nodes():
+            if isinstance(node, ast.Call) and isinstance(node.func, ast.Attribute):
+                self.assertIn(node.func.attr, METHODS | own)
+
+    def test_what_is_sorted(self):
+        # Ratios are compared but not sorted, so it must be plain that no others are there.
+        for node in self.nodes():
+            if isinstance(node, ast.Call) and isinstance(node.func, ast.Name) and node.func.id in ("sorted", "min", "max"):
+                keys = [ast.unparse(keyword.value) for keyword in node.keywords if keyword.arg == "key"]
+                self.assertIn(keys, [["str"], ["int"], ["len"]], ast.unparse(node))
+            if isinstance(node, ast.Call):
+                self.assertFalse([part for part in node.args if isinstance(part, ast.Starred)], ast.unparse(node))

@@ -3,7 +3,7 @@
 from fractions import Fraction
 
 from fairbatches.errors import BadNumber, BadText, ByZero
-from fairbatches.ratios import Ratio, as_ratio, greater, lesser, raised, total
+from fairbatches.ratios import Ratio, as_ratio, greater, lesser, proportional, raised, total
 from tests.support import ErrorCase
 
 BIG = 10 ** 59 + 9
@@ -226,3 +226,14 @@ class FunctionsTest(ErrorCase):
     def test_raised_with_many_digits(self):
         found = raised(Ratio(-BIG, BIG - 1), 200)
         self.assert_same((found.top, found.bottom), (BIG ** 200, (BIG - 1) ** 200))
+
+
+class ProportionalTest(ErrorCase):
+    def test_integers_that_are_to_one_another_as_the_numbers_are(self):
+        for numbers, wanted in [
+            ([], []), ([3], [3]), ([Ratio(2, 3)], [2]), ([Ratio(1, 2), Ratio(1, 3), 1, 0], [3, 2, 6, 0]),
+            ([Ratio(-1, 4), Ratio(5, 6)], [-3, 10]), ([2, 4], [2, 4]), ([Ratio(1, BIG), 1], [1, BIG]),
+        ]:
+            found = proportional(numbers)
+            self.assertEqual(found, wanted)
+            self.assertEqual([type(number) for number in found], [int] * len(wanted))

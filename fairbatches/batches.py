@@ -1,13 +1,17 @@
 """Batches, and the fair orders that are made up of them."""
 
-from fairbatches.ahead import ahead_pairs, chain, followers, reached
+from fairbatches.ahead import Tally, ahead_pairs, chain, reached
 from fairbatches.checks import check_things, is_split
 from fairbatches.errors import BadOrder
 
 
 def batches(records):
     """Return the list of all batches, each ascending, in ascending order."""
-    table = followers(records)
+    return batches_of(Tally(records).table())
+
+
+def batches_of(table):
+    """Return the list of all batches, where a table tells which things each thing is ahead of."""
     leads = {thing: reached(table, thing) for thing in table}
     found = {}
     for one in table:
@@ -67,9 +71,8 @@ def count_orders(records):
 
 def against(records, order):
     """Return the first pair of which the first thing is ahead of the second one but stands in a later list."""
-    if not is_order(records, order):
-        raise BadOrder(order)
-    places = _places(order)
+    check_order(records, order)
+    places = places_in(order)
     for one, other in ahead_pairs(records):
         if places[one] > places[other]:
             return (one, other)
@@ -87,14 +90,20 @@ def before(records, one, other):
     return chain(records, one, other) is not None and not merged(records, one, other)
 
 
-def _places(parts):
+def check_order(records, order):
+    """Raise an error if a value is not an order of all things."""
+    if not is_order(records, order):
+        raise BadOrder(order)
+
+
+def places_in(parts):
     """Return a dict from each thing to the number of the list in which it stands."""
     return {thing: place for place, part in enumerate(parts) for thing in part}
 
 
 def _waits(records, found):
     """Return for each of the batches, as bits, the other batches that have a thing ahead of one of its things."""
-    places = _places(found)
+    places = places_in(found)
     waits = [0 for _ in found]
     for one, other in ahead_pairs(records):
         if places[one] != places[other]:

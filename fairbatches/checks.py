@@ -1,6 +1,7 @@
-"""What may be passed as a name, a weight, a share, a row, a thing or a count."""
+"""What may be passed as a name, a weight, a share, a row, a recorder, a thing, a count and the like."""
 
-from fairbatches.errors import BadCount, BadName, BadRow, BadShare, BadWeight, NoThing
+from fairbatches.errors import BadCount, BadDelay, BadName, BadRing, BadRow, BadShare, BadTimes, BadWeight
+from fairbatches.errors import NoRecorder, NoThing
 from fairbatches.ratios import Ratio, as_ratio, is_integer, is_number
 
 
@@ -14,6 +15,11 @@ def is_name(value):
 def is_weight(value):
     """Tell whether a value is a number above 0."""
     return is_number(value) and as_ratio(value).top > 0
+
+
+def is_amount(value):
+    """Tell whether a value is a number that is at least 0."""
+    return is_number(value) and as_ratio(value).top >= 0
 
 
 def is_share(value):
@@ -65,6 +71,14 @@ def check_row(row):
         raise BadRow(row)
 
 
+def check_recorders(records, values):
+    """Raise an error for the first value of a list that is no recorder of some records."""
+    recorders = records.recorders()
+    for value in values:
+        if value not in recorders:
+            raise NoRecorder(value)
+
+
 def check_things(records, values):
     """Raise an error for the first value of a list that is no thing of some records."""
     things = records.things()
@@ -73,7 +87,44 @@ def check_things(records, values):
             raise NoThing(value)
 
 
+def check_pair(records, one, other):
+    """Raise an error for the first of two values that is no thing of some records, or the same as the other one."""
+    check_things(records, [one, other])
+    if one == other:
+        raise NoThing(other)
+
+
+def check_ring(records, value):
+    """Raise an error if a value is not a list of at least two things of some records, none of them twice."""
+    things = records.things()
+    if not is_row(value) or len(value) < 2 or not all([thing in things for thing in value]):
+        raise BadRing(value)
+
+
 def check_count(count, most):
     """Raise an error if a value is not an integer from 1 to the greatest count."""
     if not is_integer(count) or not 1 <= count <= most:
         raise BadCount(count)
+
+
+def check_bound(weight):
+    """Raise an error if a value is not a number that can bound a weight."""
+    if not is_amount(weight):
+        raise BadWeight(weight)
+
+
+def check_delay(delay):
+    """Raise an error if a value is not a delay."""
+    if not is_amount(delay):
+        raise BadDelay(delay)
+
+
+def check_times(records, value):
+    """Raise an error if a value is not a dict with a number for each thing of some records."""
+    if not isinstance(value, dict):
+        raise BadTimes(value)
+    things = records.things()
+    if len(value) != len(things) or not all([thing in value for thing in things]):
+        raise BadTimes(value)
+    if not all([is_number(number) for number in value.values()]):
+        raise BadTimes(value)

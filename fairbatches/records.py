@@ -124,6 +124,14 @@ class Records:
             raise NoRecorder(recorder)
 
 
+def is_alike(records, other):
+    """Tell whether records have the same recorders, weights and share as other ones; the rows may differ."""
+    names = records.recorders()
+    if names != other.recorders() or records.share() != other.share():
+        return False
+    return all([records.weight(name) == other.weight(name) for name in names])
+
+
 def _read_share(line):
     """Return the share that a line tells, and None if it tells none."""
     words = line.split(" ")

@@ -1,5 +1,6 @@
 """What the document says, worked out from its words alone, by trying everything, with Python's own Fractions."""
 
+import functools
 import itertools
 import random
 from fractions import Fraction
@@ -123,3 +124,69 @@ def there_is_a_parting(weights, share, count):
     """Whether there is a parting into so many lots [21]."""
     whole = sum(as_fraction(weight) for weight in weights.values())
     return least_load(weights, count) <= whole - as_fraction(share) * whole
+
+
+@functools.lru_cache(None)
+def supported(row, things):
+    """The pairs that a row supports [3]."""
+    return [(one, other) for one in row for other in things if other not in row[:row.index(one) + 1]]
+
+
+def closed(ahead):
+    """All pairs between which there is a chain, as a set, if these pairs are ahead."""
+    found = set(ahead)
+    while True:
+        longer = found | {(one, last) for one, other in found for first, last in ahead if other == first}
+        if longer == found:
+            return found
+        found = longer
+
+
+def all_rows(things):
+    """All rows of things, each a tuple."""
+    return [row for size in range(len(things) + 1) for row in itertools.permutations(things, size)]
+
+
+def lies(records, liars, more=()):
+    """All choices of a row for each liar, of the things of the records and some more."""
+    return itertools.product(all_rows((*records.things(), *more)), repeat=len(liars))
+
+
+def views(records, liars, choices, more=()):
+    """For each choice of rows for the liars: the set of the things that stand in some row then, and that of the pairs
+    of them that are ahead."""
+    weights = {name: as_fraction(records.weight(name)) for name in records.recorders()}
+    need = as_fraction(records.share()) * sum(weights.values())
+    things = (*records.things(), *more)
+    for chosen in choices:
+        told = {**{name: tuple(records.row(name)) for name in weights}, **dict(zip(liars, chosen))}
+        supports = {}
+        for name, row in told.items():
+            for pair in supported(row, things):
+                supports[pair] = supports.get(pair, 0) + weights[name]
+        present = {thing for row in told.values() for thing in row}
+        yield present, {pair for pair, weight in supports.items() if weight >= need and present >= set(pair)}
+
+
+def powers(records, liars, choices, more=()):
+    """For each wish the set of the pairs of things for which the liars can do it with one of these choices [24-27]."""
+    found = {wish: set() for wish in ("put", "keep", "lead", "bar", "part")}
+    for present, ahead in views(records, liars, choices, more):
+        leads = closed(ahead)
+        for pair in itertools.permutations([thing for thing in records.things() if thing in present], 2):
+            found["put" if pair in ahead else "keep"].add(pair)
+            found["lead" if pair in leads else "bar"].add(pair)
+            if not {pair, pair[::-1]} <= leads:
+                found["part"].add(pair)
+    return found
+
+
+def weight_of(records, recorders):
+    """The weight of some recorders, none of them twice."""
+    return sum(as_fraction(records.weight(name)) for name in recorders)
+
+
+def groups(records):
+    """All lists of recorders, each ascending."""
+    names = records.recorders()
+    return [list(group) for size in range(len(names) + 1) for group in itertools.combinations(names, size)]

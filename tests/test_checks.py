@@ -1,7 +1,10 @@
-"""Points 2, 16, 19 and 21: names, numbers, weights, shares, rows, lists of lists, things and counts."""
+"""Points 2, 16, 19, 21, 24, 28, 30 and 40: what may be passed."""
 
-from fairbatches.checks import check_count, check_things, is_name, is_row, is_share, is_split, is_weight
-from fairbatches.errors import BadCount, NoThing
+from fairbatches.checks import (
+    check_bound, check_count, check_delay, check_pair, check_recorders, check_ring, check_things, check_times, is_amount,
+    is_name, is_row, is_share, is_split, is_weight,
+)
+from fairbatches.errors import BadCount, BadDelay, BadRing, BadTimes, BadWeight, NoRecorder, NoThing
 from fairbatches.ratios import Ratio
 from fairbatches.records import Records
 from tests.support import ErrorCase, odd_lists, odd_values
@@ -62,3 +65,46 @@ class ChecksTest(ErrorCase):
             check_count(count, 5)
         for count in (0, 6, -1, True, False, None, Ratio(1), "1", [1], (1,), {1: 1}):
             self.assert_given(BadCount, count, check_count, count, 5)
+
+    def test_amounts(self):
+        for number in (0, Ratio(0), 1, 10 ** 60, Ratio(1, 10 ** 60)):
+            self.assertIs(is_amount(number), True)
+            check_bound(number)
+            check_delay(number)
+        for value in (-1, Ratio(-1, 10 ** 60), True, False, None, "0", "", [0], (0,), {0: 0}):
+            self.assertIs(is_amount(value), False)
+            self.assert_given(BadWeight, value, check_bound, value)
+            self.assert_given(BadDelay, value, check_delay, value)
+
+    def test_check_recorders(self):
+        records = Records({"bob": 1, "ann": 1}, 1, {"ann": ["a"]})
+        for values in ([], ["ann", "bob", "ann"], ("bob",)):
+            check_recorders(records, values)
+        for value in [*odd_values(), "a", "cy"]:
+            self.assert_given(NoRecorder, value, check_recorders, records, ["bob", value, "x"])
+
+    def test_check_pair(self):
+        records = Records({"ann": 1}, 1, {"ann": ["b", "a"]})
+        check_pair(records, "a", "b")
+        for value in [*odd_values(), "c"]:
+            self.assert_given(NoThing, value, check_pair, records, value, "x")
+            self.assert_given(NoThing, value, check_pair, records, "a", value)
+        self.assert_given(NoThing, "a", check_pair, records, "a", "a")
+
+    def test_check_ring(self):
+        records = Records({"ann": 1, "bob": 1}, 1, {"ann": ["b", "a"], "bob": ["c"]})
+        for value in (["a", "b"], ("c", "a"), ["c", "b", "a"]):
+            check_ring(records, value)
+        for value in [*odd_lists(), ["a"], ["a", "a"], ["a", "b", "a"], ["a", "d"], "abc", {"a": 1, "b": 2}]:
+            self.assert_given(BadRing, value, check_ring, records, value)
+
+    def test_check_times(self):
+        records = Records({"ann": 1, "bob": 1}, 1, {"ann": ["b", "a"]})
+        for value in ({"a": 0, "b": -1}, {"b": Ratio(1, 2), "a": 10 ** 70}):
+            check_times(records, value)
+        for value in [
+            *odd_values(), {"a": 1}, {"a": 1, "b": 1, "c": 1}, {"a": 1, "c": 1}, {"a": 1, 2: 1}, {"a": True, "b": 1},
+            {"a": 1, "b": None}, {"a": 1, "b": "1"}, {"a": [1], "b": 1}, ["a", "b"], [("a", 1), ("b", 1)], ("a", "b"),
+        ]:
+            self.assert_given(BadTimes, value, check_times, records, value)
+        check_times(Records({"ann": 1}, 1, {}), {})

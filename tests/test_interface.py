@@ -22,6 +22,23 @@ FUNCTIONS = {
         "lots": "weights share count", "is_parting": "weights share count value", "least_ring": "weights share",
         "ring_rows": "weights share things", "can_be_batch": "weights share count", "ring_share": "weights count",
     },
+    "liars": {
+        "is_lie": "records liars other", "can_put": "records liars one other", "can_keep": "records liars one other",
+        "can_lead": "records liars one other", "leading": "records liars one other",
+        "can_bar": "records liars one other", "can_part": "records liars one other",
+        "barring": "records liars one other", "parting": "records liars one other",
+        "least_lot": "records wish one other",
+    },
+    "ringliars": {
+        "can_ring": "records liars things", "ringing": "records liars things",
+        "joining_ring": "records liars one other most", "least_ringers": "records things",
+    },
+    "unsure": {
+        "surely_ahead": "records weight one other", "may_be_ahead": "records weight one other",
+        "surely_before": "records weight one other", "may_be_before": "records weight one other",
+        "doubt": "records weight one other", "firmness": "records one other", "sure_batches": "records weight",
+        "sure_order": "records weight order",
+    },
 }
 
 

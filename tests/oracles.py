@@ -190,3 +190,27 @@ def groups(records):
     """All lists of recorders, each ascending."""
     names = records.recorders()
     return [list(group) for size in range(len(names) + 1) for group in itertools.combinations(names, size)]
+
+
+def grown_rows(records, more):
+    """All choices of rows, one for each recorder, that its row can grow to with the things and some more."""
+    things = (*records.things(), *more)
+    choices = []
+    for name in records.recorders():
+        row = tuple(records.row(name))
+        choices.append([row + tail for tail in all_rows([thing for thing in things if thing not in row])])
+    return choices
+
+
+def threats(records, more):
+    """The pairs of things, and some more, of which the first one can be ahead of the second one in the end [33]."""
+    choices = itertools.product(*grown_rows(records, more))
+    found = set()
+    for _, ahead in views(records, records.recorders(), choices, more):
+        found |= ahead
+    return found
+
+
+def all_sets(things):
+    """All sets of some things, each an ascending tuple, smaller ones first and else in ascending order."""
+    return [chosen for size in range(len(things) + 1) for chosen in itertools.combinations(things, size)]

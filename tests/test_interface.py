@@ -4,6 +4,8 @@ import importlib
 import inspect
 import unittest
 
+from fairbatches.ratios import Ratio
+
 FUNCTIONS = {
     "ratios": {
         "as_ratio": "given", "lesser": "one other", "greater": "one other", "total": "numbers",
@@ -39,6 +41,35 @@ FUNCTIONS = {
         "doubt": "records weight one other", "firmness": "records one other", "sure_batches": "records weight",
         "sure_order": "records weight order",
     },
+    "growing": {
+        "threatens": "records one other", "open_to_strangers": "records thing", "can_give": "records things",
+        "ready": "records", "threat": "records thing", "is_threat": "records thing value", "grown": "records one other",
+        "is_grown": "records other", "first_given": "records",
+    },
+    "shares": {
+        "lead_share": "records one other", "merge_share": "records one other", "split_shares": "records",
+        "batch_share": "records things", "unfairness": "records order",
+    },
+    "delays": {
+        "fits_times": "records delay times", "moments": "records delay times", "span": "records delay one other",
+        "latest": "records delay one other", "batch_spans": "records delay",
+    },
+}
+METHODS = {
+    ("ratios", "Ratio"): {
+        "__init__": "top bottom", "read": "text", "__add__": "other", "__sub__": "other", "__mul__": "other",
+        "__neg__": "", "__eq__": "other", "__lt__": "other", "__le__": "other", "over": "number", "text": "",
+    },
+    ("records", "Records"): {
+        "__init__": "weights share rows", "read": "text", "text": "", "recorders": "", "things": "", "row": "recorder",
+        "weight": "recorder", "whole": "", "share": "", "weight_of": "recorders", "__eq__": "other",
+        "seen": "recorder thing", "with_row": "recorder row", "with_share": "share", "without": "recorder",
+    },
+    ("house", "House"): {
+        "__init__": "weights share", "see": "recorder thing", "give": "", "strike": "recorder", "records": "",
+        "__len__": "", "order": "", "waiting": "", "wrong": "", "undo": "", "redo": "", "tried": "act", "text": "",
+        "take": "text",
+    },
 }
 
 
@@ -55,3 +86,19 @@ class InterfaceTest(unittest.TestCase):
                     for parameter in found:
                         self.assertIs(parameter.kind, inspect.Parameter.POSITIONAL_OR_KEYWORD)
                         self.assertIs(parameter.default, inspect.Parameter.empty)
+
+    def test_methods(self):
+        for (file, name), methods in METHODS.items():
+            module = importlib.import_module("fairbatches." + file)
+            found = getattr(module, name)
+            self.assertEqual(found.__module__, module.__name__)
+            for method, wanted in methods.items():
+                with self.subTest(file=file, name=name, method=method):
+                    # The class itself must have it, and not only a base class.
+                    function = vars(found)[method]
+                    plain = function.__func__ if isinstance(function, classmethod) else function
+                    self.assertEqual(list(inspect.signature(plain).parameters)[1:], wanted.split())
+
+    def test_properties(self):
+        for name in ("top", "bottom"):
+            self.assertIsInstance(vars(Ratio)[name], property)

@@ -52,10 +52,10 @@ def _leads(tally):
     things = tally.known
     leads = {one: {other: tally.load(tally.backers(one, other)) for other in things} for one in things}
     for middle in things:
-        for one in things:
-            for other in things:
-                through = min(leads[one][middle], leads[middle][other], key=int)
-                leads[one][other] = max(leads[one][other], through, key=int)
+        for start in things:
+            for end in things:
+                through = min(leads[start][middle], leads[middle][end], key=int)
+                leads[start][end] = max(leads[start][end], through, key=int)
     return leads
 
 

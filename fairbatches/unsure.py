@@ -2,7 +2,7 @@
 
 from fairbatches.ahead import Tally
 from fairbatches.batches import batches_of, check_order, places_in
-from fairbatches.checks import check_bound, check_pair
+from fairbatches.checks import check_bound
 from fairbatches.liars import barring, least_lot
 
 

@@ -1,6 +1,6 @@
 """Those rules of the language for the package that are easy to check.
 
-They are of L1, L2, L4, L5, L7, L8, L10, L14, L17, L25 and L27.
+They are of L1, L2, L4, L5, L7, L8, L10, L14 to L17, L25 and L27.
 """
 
 import ast
@@ -60,6 +60,30 @@ class LanguageTest(unittest.TestCase):
                 self.assertEqual(node.level, 0)
                 self.assertTrue(node.module in LIBRARY or node.module.startswith("fairbatches."), node.module)
                 self.assertNotIn("*", [name.name for name in node.names])
+
+    def test_imports_are_used_and_their_names_mean_nothing_else(self):
+        for path in FILES:
+            tree = ast.parse(path.read_text())
+            taken = {name.name for node in tree.body if isinstance(node, ast.ImportFrom) for name in node.names}
+            nodes = list(ast.walk(tree))
+            self.assertLessEqual(taken, {node.id for node in nodes if isinstance(node, ast.Name)}, path.name)
+            taken |= {node.name for node in tree.body if isinstance(node, ast.ClassDef)}
+            local = {node.id for node in nodes if isinstance(node, ast.Name) and not isinstance(node.ctx, ast.Load)}
+            local |= {node.arg for node in nodes if isinstance(node, ast.arg)}
+            self.assertEqual(local & taken, set(), path.name)
+
+    def test_no_two_files_import_from_each_other(self):
+        imports = {
+            path.stem: {
+                node.module.split(".")[1] for node in ast.parse(path.read_text()).body
+                if isinstance(node, ast.ImportFrom) and node.module.startswith("fairbatches.")
+            }
+            for path in FILES
+        }
+        while imports:
+            free = [name for name, others in imports.items() if not others & set(imports)]
+            self.assertTrue(free, imports)
+            imports = {name: others for name, others in imports.items() if name not in free}
 
     def test_functions_and_classes(self):
         for node in self.nodes():
